@@ -128,6 +128,13 @@ func BitsToBytes(list []int64) ([]int64, int64) {
 	return bytes, ErrNone
 }
 
+// bytesOfNumber returns a number in some bytes, the most significant one first. It must have room
+// in them.
+func bytesOfNumber(value int64, size int64) []int64 {
+	bytes, _ := BitsToBytes(pushNumber(nil, value, size*byteWidth))
+	return bytes
+}
+
 // FlipBits returns the bit list in which the bits at some indices are the other ones, and
 // ErrNone. Errors, in this order: ErrInvalid if list is not a bit list; ErrRange if indices are
 // not strictly increasing indices of it.

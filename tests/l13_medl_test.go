@@ -1311,23 +1311,32 @@ func TestMedlErrors(t *testing.T) {
 		}
 		expectErrInvalid(t, m)
 	}
+	for _, m := range medlsWithWrongTables() {
+		expectErrInvalid(t, m)
+	}
+}
+
+// medlsWithWrongTables returns schedules that are well-formed but for one list that is no table.
+func medlsWithWrongTables() []impl.Medl {
+	var list []impl.Medl
 	for i, table := range notNodeTables() {
 		m := someMedls()[i%len(someMedls())]
 		m.Nodes = table
-		expectErrInvalid(t, m)
+		list = append(list, m)
 	}
 	for i, table := range notModeTables() {
 		m := someMedls()[i%len(someMedls())]
 		m.Modes = table
-		expectErrInvalid(t, m)
+		list = append(list, m)
 	}
 	for i, table := range notSlotTables() {
 		if i%3 == 0 {
 			m := someMedls()[i%len(someMedls())]
 			m.Slots = table
-			expectErrInvalid(t, m)
+			list = append(list, m)
 		}
 	}
+	return list
 }
 
 // A mode that is none is ErrRange for the times and ErrNotFound for a sender.
