@@ -858,9 +858,9 @@ func expectLookupErrInvalid(t *testing.T, m impl.Medl) {
 	}
 }
 
-// Schedules that break one rule alone, all sets of rules at once, and those with tables that are none.
-func TestLookupsOfBrokenSchedules(t *testing.T) {
-	lists := []impl.Medl{
+// brokenMedls are schedules that break one rule alone, some sets of rules at once, or all that there are.
+func brokenMedls() []impl.Medl {
+	list := []impl.Medl{
 		{}, {Id: 1}, {Id: 1, Nodes: []impl.NodeInfo{}, Modes: []impl.ModeInfo{}, Slots: []impl.SlotInfo{}},
 		{Id: 1, Nodes: []impl.NodeInfo{{Name: "a"}}, Modes: []impl.ModeInfo{{Rounds: greatest, Slots: greatest}}},
 		{Id: 1, Nodes: []impl.NodeInfo{{Name: "a"}}, Modes: []impl.ModeInfo{{Rounds: 1, Slots: 1}}},
@@ -874,13 +874,21 @@ func TestLookupsOfBrokenSchedules(t *testing.T) {
 			}
 		}
 		if set&(set-1) == 0 || set%37 == 0 {
-			lists = append(lists, m)
+			list = append(list, m)
 		}
 	}
-	for i, m := range slices.Concat(lists, medlsWithWrongTables()) {
-		if i < len(lists) && firstByReference(m) == 0 {
+	return list
+}
+
+// Schedules that break one rule alone, all sets of rules at once, and those with tables that are none.
+func TestLookupsOfBrokenSchedules(t *testing.T) {
+	for _, m := range brokenMedls() {
+		if firstByReference(m) == 0 {
 			t.Errorf("%s is well-formed", nameOfMedl(m))
 		}
+		expectLookupErrInvalid(t, m)
+	}
+	for _, m := range medlsWithWrongTables() {
 		expectLookupErrInvalid(t, m)
 	}
 }
