@@ -13,11 +13,11 @@ import (
 // descriptorPattern are the bits of the bytes of a descriptor: Node, Kind, Size, Duration and Change.
 var descriptorPattern = regexp.MustCompile(`\A([01]{8})([01]{2})([01]{6})([01]{16})0000000([01])\z`)
 
-// lineByReference returns the cells of the transmission of some bytes as a text: the start of the transmission and of the
-// frame, the bytes, and the end of the frame. It does not use the program.
-func lineByReference(bytes []int64) string {
+// lineByReference returns the cells of the transmission of some bytes with a preamble as a text: the start of the
+// transmission and of the frame, the bytes, and the end of the frame. It does not use the program.
+func lineByReference(bytes []int64, preamble int64) string {
 	var line strings.Builder
-	line.WriteString("000000001")
+	line.WriteString(strings.Repeat("0", int(preamble)) + "1")
 	for _, value := range bytes {
 		line.WriteString("10" + textOfNumber(value, 8))
 	}
@@ -31,7 +31,7 @@ func cellsByReference(kind int64, size int64) int64 {
 	if body == 0 {
 		return 0
 	}
-	return int64(len(lineByReference(repeated(0, int(body)+3))))
+	return int64(len(lineByReference(repeated(0, int(body)+3), 8)))
 }
 
 // isDescriptorByReference reports whether a descriptor is valid. It does not use the program.
@@ -769,7 +769,7 @@ func TestEmptyFramesFit(t *testing.T) {
 			t.Errorf("%s: the code of %v is %d", emptyName(d, s), f, code)
 		}
 		cells, code := impl.CellsNeeded(d.Kind, d.Size)
-		expectNumber(t, emptyName(d, s)+", its cells", cells, code, int64(len(lineByReference(sealed))), impl.ErrNone)
+		expectNumber(t, emptyName(d, s)+", its cells", cells, code, int64(len(lineByReference(sealed, 8))), impl.ErrNone)
 		pause, code := impl.PauseOf(d)
 		expectNumber(t, emptyName(d, s)+", the pause", pause, code, d.Duration-cells, impl.ErrNone)
 		kinds[d.Kind]++
